@@ -173,28 +173,31 @@ func List(m api.Mem, w uint64) (a, count, block, room int, ok bool) {
 	return a, count, block, room, true
 }
 
+// Row is where the items of a list or tuple lie, how many they are, and the kind of it: 0, if it is none.
+func Row(m api.Mem, w uint64) (from, n, kind int) {
+	s, a, ok := At(m, w)
+	switch {
+	case ok && s.Kind == api.KTuple:
+		return a, s.Tagged, s.Kind
+	case ok && s.Kind == api.KList:
+		if _, count, block, _, ok := List(m, w); ok {
+			return block, count, s.Kind
+		}
+	}
+	return 0, 0, 0
+}
+
 // Items are the items of a list or tuple, as new memory; the kind is that of it, or 0.
 func Items(m api.Mem, w uint64) ([]uint64, int) {
-	s, from, ok := At(m, w)
-	if !ok {
-		return nil, 0
-	}
-	n := 0
-	switch s.Kind {
-	case api.KTuple:
-		n = s.Tagged
-	case api.KList:
-		if _, n, from, _, ok = List(m, w); !ok {
-			return nil, 0
-		}
-	default:
+	from, n, kind := Row(m, w)
+	if kind == 0 {
 		return nil, 0
 	}
 	out := make([]uint64, n)
 	for i := range out {
 		out[i] = Item(m, from, i)
 	}
-	return out, s.Kind
+	return out, kind
 }
 
 // Counter counts the values, or pairs of values, that one comparison, hash or text goes through.
@@ -231,13 +234,13 @@ func (c *Counter) Equal(a, b uint64, depth int) (bool, api.Errno) {
 	if a == b || ok1 || ok2 {
 		return a == b, api.OK
 	}
-	x, kind := Items(c.M, a)
-	y, other := Items(c.M, b)
-	if kind == 0 || kind != other || len(x) != len(y) {
+	x, n, kind := Row(c.M, a)
+	y, m, other := Row(c.M, b)
+	if kind == 0 || kind != other || n != m {
 		return false, api.OK
 	}
-	for i := range x {
-		if same, err := c.Equal(x[i], y[i], depth+1); !same || err != api.OK {
+	for i := range n {
+		if same, err := c.Equal(Item(c.M, x, i), Item(c.M, y, i), depth+1); !same || err != api.OK {
 			return false, err
 		}
 	}

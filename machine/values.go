@@ -48,11 +48,16 @@ func (v *vm) row(w uint64) []uint64 {
 	return v.letters(v.take(w).Text)
 }
 
-// letters are strings of one byte each.
+// letters are strings of one byte each; a byte that comes again is the same string.
 func (v *vm) letters(text string) []uint64 {
+	var known [256]uint64
 	var out []uint64
 	for i := range len(text) {
-		out = append(out, v.putText(text[i:i+1]))
+		b := text[i]
+		if known[b] == 0 {
+			known[b] = v.putText(text[i : i+1])
+		}
+		out = append(out, known[b])
 	}
 	return out
 }

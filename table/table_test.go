@@ -286,6 +286,9 @@ func TestAnyMemory(t *testing.T) {
 			if r.Intn(3) == 0 {
 				m.W[k] = uint64(r.Intn(120))
 			}
+			if r.Intn(9) == 0 {
+				m.W[k] = small(r.Intn(1<<60) - 1<<59)
+			}
 		}
 		Find(*m, 4, small(1))
 		Put(m, 4, small(r.Intn(9)), none)
