@@ -33,7 +33,7 @@ func (m *maker) jump(i api.Ins, l *label) {
 	}
 }
 
-// always, if and unless are the jumps.
+// always, onTrue and unless go to a label: whatever is, if a register is true, if it is not.
 func (m *maker) always(l *label)        { m.jump(api.Ins{Op: api.OJump}, l) }
 func (m *maker) onTrue(a int, l *label) { m.jump(api.Ins{Op: api.OIf, A: a}, l) }
 func (m *maker) unless(a int, l *label) { m.jump(api.Ins{Op: api.OUnless, A: a}, l) }
