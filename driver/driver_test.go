@@ -150,3 +150,13 @@ func TestMemory(t *testing.T) {
 		t.Error("memory is shared")
 	}
 }
+
+// P18.5: the Quote of a whole value is read by a source as that value.
+func TestQuotesAreSources(t *testing.T) {
+	for _, text := range []string{"None", "True", "[1, -2, 3.5, 1e+16, -0.0, 'a\\'\\n\\xc8\\\\']", "(1,)", "()", "{'a': [], 2: (3, 4)}", "{1, 'b'}", "set()", "{}", "range(1, -5, -2)", "1000000000000000000000", "''", "'\\t\"'", "[[[]]]", "{(): {1: {2}}}", "1.5e-07", "5e-324"} {
+		r := Run([]byte("x = "+text+"\nprint(repr(x))"), right)
+		if r.End != api.EndOK || r.Out[0] != text {
+			t.Errorf("%s: %v", text, r)
+		}
+	}
+}

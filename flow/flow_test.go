@@ -210,3 +210,32 @@ func TestMemory(t *testing.T) {
 		}
 	}
 }
+
+// P10.4: with a read taken away nothing becomes live that wasn't; what is live at the beginning and no parameter may be read unset.
+func TestFollows(t *testing.T) {
+	r := rand.New(rand.NewSource(2))
+	for range 2000 {
+		f := random(r)
+		rows, _ := Live(f)
+		g := f
+		g.Ins = append([]api.Ins{}, f.Ins...)
+		at := r.Intn(len(g.Ins) - 1)
+		g.Ins[at] = api.Ins{Op: api.OCell, D: f.Ins[at].D}
+		if len(code.Reads(f.Ins[at])) == 0 || !reflect.DeepEqual(code.Writes(f.Ins[at]), code.Writes(g.Ins[at])) || len(code.Goes(f.Ins[at], at)) != 1 || Handler(f, at) != Handler(g, at) {
+			continue
+		}
+		fewer, e := Live(g)
+		if e != api.OK {
+			t.Fatal(e)
+		}
+		for k := range rows {
+			if fewer[k][0]&^rows[k][0] != 0 {
+				t.Fatalf("%v at %d: more is live", f, at)
+			}
+		}
+	}
+	rows, _ := Live(api.Func{Regs: 3, Params: 1, Ins: []api.Ins{{Op: api.OIf, A: 0, T: 2}, c(2), {Op: api.OReturn, A: 2}}})
+	if !reflect.DeepEqual(regs(rows[0]), []int{0, 2}) {
+		t.Error(regs(rows[0]))
+	}
+}

@@ -280,10 +280,13 @@ func (v *vm) collect() {
 		}
 		a += 2 + tagged + raw
 	}
-	turned, err := slide.Collect(&v.mem, []uint64{v.home, v.globals, v.pool, v.frame})
+	// The collector needn't look at words that aren't in use.
+	used := api.Mem{W: v.mem.W[:v.mem.Top], Top: v.mem.Top}
+	turned, err := slide.Collect(&used, []uint64{v.home, v.globals, v.pool, v.frame})
 	if err != api.OK {
 		return
 	}
+	v.mem.Top = used.Top
 	v.home, v.globals, v.pool, v.frame = turned[0], turned[1], turned[2], turned[3]
 }
 

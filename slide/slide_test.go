@@ -201,3 +201,34 @@ func TestChain(t *testing.T) {
 		t.Errorf("%v pieces of memory were taken", bytes)
 	}
 }
+
+// P14.3: a collection, and then one with fewer roots, is one with these alone; the picture stays.
+func TestFewerRoots(t *testing.T) {
+	r := rand.New(rand.NewSource(2))
+	for range 1000 {
+		m, roots := random(r)
+		both, once := copied(m), copied(m)
+		n := r.Intn(len(roots) + 1)
+		all, e := Collect(&both, roots)
+		if e != api.OK {
+			t.Fatal(e)
+		}
+		after, _ := Collect(&both, all[:n])
+		alone, _ := Collect(&once, roots[:n])
+		if !reflect.DeepEqual(after, alone) || !reflect.DeepEqual(both, once) {
+			t.Fatal("two collections aren't one")
+		}
+		before, _ := Reach(m, roots[:n])
+		now, _ := Reach(once, alone)
+		if len(before) != len(now) {
+			t.Fatal("not as many")
+		}
+		for i := range now {
+			k1, _ := arena.Kind(m, before[i])
+			k2, _ := arena.Kind(once, now[i])
+			if k1 != k2 {
+				t.Fatal("other kinds")
+			}
+		}
+	}
+}
