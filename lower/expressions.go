@@ -1,6 +1,9 @@
 package lower
 
-import "scree/api"
+import (
+	"scree/api"
+	"scree/node"
+)
 
 // expr answers a register with the expression's value.
 func (m *maker) expr(n api.Node) int {
@@ -18,23 +21,23 @@ func (m *maker) expr(n api.Node) int {
 	case api.NName:
 		return m.load(n.Text)
 	case api.NBin:
-		return m.two(api.OBin, n.Op, kid(n, 0), kid(n, 1))
+		return m.two(api.OBin, n.Op, node.Kid(n, 0), node.Kid(n, 1))
 	case api.NUn:
-		return m.one(api.OUn, n.Op, kid(n, 0))
+		return m.one(api.OUn, n.Op, node.Kid(n, 0))
 	case api.NNot:
-		return m.one(api.ONot, 0, kid(n, 0))
+		return m.one(api.ONot, 0, node.Kid(n, 0))
 	case api.NAnd, api.NOr:
 		return m.andOr(n)
 	case api.NCompare:
 		return m.compare(n)
 	case api.NCall:
-		a := m.expr(kid(n, 0))
+		a := m.expr(node.Kid(n, 0))
 		l := m.exprs(n.Kids[min(1, len(n.Kids)):])
 		return m.made(api.Ins{Op: api.OCall, A: a, L: l})
 	case api.NAttr:
-		return m.attr(m.expr(kid(n, 0)), n.Text)
+		return m.attr(m.expr(node.Kid(n, 0)), n.Text)
 	case api.NIndex:
-		return m.two(api.OIndex, 0, kid(n, 0), kid(n, 1))
+		return m.two(api.OIndex, 0, node.Kid(n, 0), node.Kid(n, 1))
 	case api.NSlice:
 		return m.slice(n)
 	case api.NCond:
@@ -105,26 +108,26 @@ func (m *maker) maybe(n api.Node) int {
 func (m *maker) andOr(n api.Node) int {
 	var end label
 	t := m.fresh()
-	m.emit(api.Ins{Op: api.OMove, D: t, A: m.expr(kid(n, 0))})
+	m.emit(api.Ins{Op: api.OMove, D: t, A: m.expr(node.Kid(n, 0))})
 	if n.Kind == api.NAnd {
 		m.unless(t, &end)
 	} else {
 		m.onTrue(t, &end)
 	}
-	m.emit(api.Ins{Op: api.OMove, D: t, A: m.expr(kid(n, 1))})
+	m.emit(api.Ins{Op: api.OMove, D: t, A: m.expr(node.Kid(n, 1))})
 	m.set(&end)
 	return t
 }
 
 func (m *maker) compare(n api.Node) int {
 	if len(n.Kids) == 2 {
-		return m.two(api.OCmp, n.Kids[1].Op, n.Kids[0], kid(n.Kids[1], 0))
+		return m.two(api.OCmp, n.Kids[1].Op, n.Kids[0], node.Kid(n.Kids[1], 0))
 	}
 	var end label
 	t := m.fresh()
-	a := m.expr(kid(n, 0))
+	a := m.expr(node.Kid(n, 0))
 	for i := 1; i < len(n.Kids); i++ {
-		b := m.expr(kid(n.Kids[i], 0))
+		b := m.expr(node.Kid(n.Kids[i], 0))
 		c := m.made(api.Ins{Op: api.OCmp, A: a, B: b, K: n.Kids[i].Op})
 		m.emit(api.Ins{Op: api.OMove, D: t, A: c})
 		if i < len(n.Kids)-1 {
@@ -137,21 +140,21 @@ func (m *maker) compare(n api.Node) int {
 }
 
 func (m *maker) slice(n api.Node) int {
-	a := m.expr(kid(n, 0))
+	a := m.expr(node.Kid(n, 0))
 	// What isn't there is None, as a node of no value is.
-	from := m.expr(kid(n, 1))
-	to := m.expr(kid(n, 2))
+	from := m.expr(node.Kid(n, 1))
+	to := m.expr(node.Kid(n, 2))
 	return m.made(api.Ins{Op: api.OSlice, A: a, L: []int{from, to}})
 }
 
 func (m *maker) cond(n api.Node) int {
 	var other, end label
 	t := m.fresh()
-	m.unless(m.expr(kid(n, 0)), &other)
-	m.emit(api.Ins{Op: api.OMove, D: t, A: m.expr(kid(n, 1))})
+	m.unless(m.expr(node.Kid(n, 0)), &other)
+	m.emit(api.Ins{Op: api.OMove, D: t, A: m.expr(node.Kid(n, 1))})
 	m.always(&end)
 	m.set(&other)
-	m.emit(api.Ins{Op: api.OMove, D: t, A: m.expr(kid(n, 2))})
+	m.emit(api.Ins{Op: api.OMove, D: t, A: m.expr(node.Kid(n, 2))})
 	m.set(&end)
 	return t
 }
@@ -163,10 +166,10 @@ func (m *maker) makeFunc(n api.Node) int {
 	}
 	m.function(n.Op, func(inner *maker) {
 		if n.Kind == api.NLambda {
-			inner.emit(api.Ins{Op: api.OReturn, A: inner.expr(kid(n, 1))})
+			inner.emit(api.Ins{Op: api.OReturn, A: inner.expr(node.Kid(n, 1))})
 			return
 		}
-		inner.block(kid(n, 1))
+		inner.block(node.Kid(n, 1))
 	})
 	var cells []int
 	for _, name := range m.scopes[n.Op].Frees {
@@ -178,20 +181,9 @@ func (m *maker) makeFunc(n api.Node) int {
 // hidden are the comprehension's own names, in the order of Locals, as registers.
 func (m *maker) hidden(n api.Node) []int {
 	own := map[string]int{}
-	var mark func(place api.Node)
-	mark = func(place api.Node) {
-		switch place.Kind {
-		case api.NName:
-			own[place.Text] = 1
-		case api.NTuple, api.NList:
-			for _, k := range place.Kids {
-				mark(k)
-			}
-		}
-	}
 	for _, k := range n.Kids {
 		if k.Kind == api.NEach {
-			mark(kid(k, 0))
+			node.EachTarget(node.Kid(k, 0), func(text string) { own[text] = 1 })
 		}
 	}
 	var out []int
@@ -234,17 +226,17 @@ func (m *maker) clauses(n api.Node, t, i int, back *label) {
 	}
 	k := n.Kids[i]
 	if k.Kind == api.NWhen {
-		m.unless(m.expr(kid(k, 0)), back)
+		m.unless(m.expr(node.Kid(k, 0)), back)
 		m.clauses(n, t, i+1, back)
 		return
 	}
 	var here, again, end label
-	v := m.expr(kid(k, 1))
+	v := m.expr(node.Kid(k, 1))
 	it := m.made(api.Ins{Op: api.OIter, A: v})
 	m.set(&here)
 	x := m.fresh()
 	m.jump(api.Ins{Op: api.ONext, D: x, A: it}, &end)
-	m.assign(kid(k, 0), x)
+	m.assign(node.Kid(k, 0), x)
 	m.clauses(n, t, i+1, &again)
 	m.set(&again)
 	m.always(&here)
@@ -253,10 +245,10 @@ func (m *maker) clauses(n api.Node, t, i int, back *label) {
 
 // innermost adds to the container what a comprehension makes.
 func (m *maker) innermost(n api.Node, t int) {
-	a := m.expr(kid(n, 0))
+	a := m.expr(node.Kid(n, 0))
 	switch n.Kind {
 	case api.NDictFor:
-		v := m.expr(kid(n, 1))
+		v := m.expr(node.Kid(n, 1))
 		m.emit(api.Ins{Op: api.OSetIndex, A: t, B: a, L: []int{v}})
 	case api.NSetFor:
 		m.emit(api.Ins{Op: api.OAdd, A: t, B: a})

@@ -2,6 +2,7 @@ package lower
 
 import (
 	"scree/api"
+	"scree/node"
 	"scree/scope"
 )
 
@@ -24,9 +25,9 @@ func (m *maker) line(n api.Node) { m.emit(api.Ins{Op: api.OLine, K: max(0, n.Lin
 func (m *maker) statement(n api.Node) {
 	switch n.Kind {
 	case api.NExpr:
-		m.expr(kid(n, 0))
+		m.expr(node.Kid(n, 0))
 	case api.NAssign:
-		v := m.expr(kid(n, len(n.Kids)-1))
+		v := m.expr(node.Kid(n, len(n.Kids)-1))
 		for i := 0; i < len(n.Kids)-1; i++ {
 			m.assign(n.Kids[i], v)
 		}
@@ -52,11 +53,11 @@ func (m *maker) statement(n api.Node) {
 		m.raise(n)
 	case api.NAssert:
 		var end label
-		m.onTrue(m.expr(kid(n, 0)), &end)
+		m.onTrue(m.expr(node.Kid(n, 0)), &end)
 		m.emit(api.Ins{Op: api.ORaise, A: m.made(api.Ins{Op: api.OBuiltin, K: assert})})
 		m.set(&end)
 	case api.NDel:
-		m.del(kid(n, 0))
+		m.del(node.Kid(n, 0))
 	case api.NTry:
 		m.try(n)
 	case api.NWith:
@@ -70,11 +71,11 @@ func (m *maker) assign(place api.Node, v int) {
 	case api.NName:
 		m.store(place.Text, v)
 	case api.NAttr:
-		a := m.expr(kid(place, 0))
+		a := m.expr(node.Kid(place, 0))
 		m.emit(api.Ins{Op: api.OSetAttr, A: a, B: v, K: m.name(place.Text)})
 	case api.NIndex:
-		a := m.expr(kid(place, 0))
-		b := m.expr(kid(place, 1))
+		a := m.expr(node.Kid(place, 0))
+		b := m.expr(node.Kid(place, 1))
 		m.emit(api.Ins{Op: api.OSetIndex, A: a, B: b, L: []int{v}})
 	case api.NTuple, api.NList:
 		var parts []int
@@ -89,21 +90,21 @@ func (m *maker) assign(place api.Node, v int) {
 }
 
 func (m *maker) augment(n api.Node) {
-	place := kid(n, 0)
+	place := node.Kid(n, 0)
 	join := func(x int) int {
-		v := m.expr(kid(n, 1))
+		v := m.expr(node.Kid(n, 1))
 		return m.made(api.Ins{Op: api.OBin, A: x, B: v, K: n.Op})
 	}
 	switch place.Kind {
 	case api.NName:
 		m.store(place.Text, join(m.load(place.Text)))
 	case api.NAttr:
-		a := m.expr(kid(place, 0))
+		a := m.expr(node.Kid(place, 0))
 		t := join(m.attr(a, place.Text))
 		m.emit(api.Ins{Op: api.OSetAttr, A: a, B: t, K: m.name(place.Text)})
 	case api.NIndex:
-		a := m.expr(kid(place, 0))
-		b := m.expr(kid(place, 1))
+		a := m.expr(node.Kid(place, 0))
+		b := m.expr(node.Kid(place, 1))
 		t := join(m.made(api.Ins{Op: api.OIndex, A: a, B: b}))
 		m.emit(api.Ins{Op: api.OSetIndex, A: a, B: b, L: []int{t}})
 	}
@@ -111,8 +112,8 @@ func (m *maker) augment(n api.Node) {
 
 func (m *maker) ifs(n api.Node) {
 	var other, end label
-	m.unless(m.expr(kid(n, 0)), &other)
-	m.statements(kid(n, 1))
+	m.unless(m.expr(node.Kid(n, 0)), &other)
+	m.statements(node.Kid(n, 1))
 	if len(n.Kids) > 2 {
 		m.always(&end)
 	}
@@ -126,21 +127,21 @@ func (m *maker) ifs(n api.Node) {
 func (m *maker) while(n api.Node) {
 	var here, end label
 	m.set(&here)
-	m.unless(m.expr(kid(n, 0)), &end)
-	m.within(context{kind: isLoop, here: &here, end: &end}, func() { m.statements(kid(n, 1)) })
+	m.unless(m.expr(node.Kid(n, 0)), &end)
+	m.within(context{kind: isLoop, here: &here, end: &end}, func() { m.statements(node.Kid(n, 1)) })
 	m.always(&here)
 	m.set(&end)
 }
 
 func (m *maker) fors(n api.Node) {
 	var here, end label
-	v := m.expr(kid(n, 1))
+	v := m.expr(node.Kid(n, 1))
 	it := m.made(api.Ins{Op: api.OIter, A: v})
 	m.set(&here)
 	x := m.fresh()
 	m.jump(api.Ins{Op: api.ONext, D: x, A: it}, &end)
-	m.assign(kid(n, 0), x)
-	m.within(context{kind: isLoop, here: &here, end: &end}, func() { m.statements(kid(n, 2)) })
+	m.assign(node.Kid(n, 0), x)
+	m.within(context{kind: isLoop, here: &here, end: &end}, func() { m.statements(node.Kid(n, 2)) })
 	m.always(&here)
 	m.set(&end)
 }
@@ -154,17 +155,17 @@ func (m *maker) cellOf(name string) int {
 }
 
 func (m *maker) class(n api.Node) {
-	bases := m.exprs(kid(n, 0).Kids)
+	bases := m.exprs(node.Kid(n, 0).Kids)
 	t := m.made(api.Ins{Op: api.OClass, K: m.name(n.Text), L: bases})
-	for _, k := range kid(n, 1).Kids {
+	for _, k := range node.Kid(n, 1).Kids {
 		m.line(k)
 		switch k.Kind {
 		case api.NDef:
 			u := m.makeFunc(k)
 			m.emit(api.Ins{Op: api.OSetAttr, A: t, B: u, K: m.name(k.Text)})
 		case api.NAssign:
-			u := m.expr(kid(k, 1))
-			m.emit(api.Ins{Op: api.OSetAttr, A: t, B: u, K: m.name(kid(k, 0).Text)})
+			u := m.expr(node.Kid(k, 1))
+			m.emit(api.Ins{Op: api.OSetAttr, A: t, B: u, K: m.name(node.Kid(k, 0).Text)})
 		}
 	}
 	m.store(n.Text, t)
@@ -188,17 +189,17 @@ func (m *maker) del(place api.Node) {
 	case api.NName:
 		m.drop(place.Text)
 	case api.NAttr:
-		a := m.expr(kid(place, 0))
+		a := m.expr(node.Kid(place, 0))
 		m.emit(api.Ins{Op: api.ODelAttr, A: a, K: m.name(place.Text)})
 	case api.NIndex:
-		a := m.expr(kid(place, 0))
-		b := m.expr(kid(place, 1))
+		a := m.expr(node.Kid(place, 0))
+		b := m.expr(node.Kid(place, 1))
 		m.emit(api.Ins{Op: api.ODelIndex, A: a, B: b})
 	}
 }
 
 func (m *maker) try(n api.Node) {
-	last := kid(n, len(n.Kids)-1)
+	last := node.Kid(n, len(n.Kids)-1)
 	if last.Kind != api.NFinally {
 		m.handled(n)
 		return
@@ -207,7 +208,7 @@ func (m *maker) try(n api.Node) {
 	g := m.guarded(func() { m.handled(n) })
 	m.lit(g.why, yes)
 	m.set(&g.last)
-	m.statements(kid(last, 0))
+	m.statements(node.Kid(last, 0))
 	var exits, end label
 	t := m.literal(none)
 	c := m.made(api.Ins{Op: api.OCmp, A: g.why, B: t, K: api.Is})
@@ -224,7 +225,7 @@ func (m *maker) try(n api.Node) {
 // handled lays a try without its finally.
 func (m *maker) handled(n api.Node) {
 	if len(n.Kids) < 2 {
-		m.statements(kid(n, 0))
+		m.statements(node.Kid(n, 0))
 		return
 	}
 	var end label
@@ -251,19 +252,19 @@ func (m *maker) handler(h api.Node, e int, end *label) {
 	if h.Text != "" {
 		m.store(h.Text, e)
 	}
-	m.within(context{kind: isHandler, e: e}, func() { m.statements(kid(h, len(h.Kids)-1)) })
+	m.within(context{kind: isHandler, e: e}, func() { m.statements(node.Kid(h, len(h.Kids)-1)) })
 	m.always(end)
 	m.set(&next)
 }
 
 func (m *maker) with(n api.Node) {
-	w := m.expr(kid(n, 0))
+	w := m.expr(node.Kid(n, 0))
 	exit := m.attr(w, "__exit__")
 	v := m.made(api.Ins{Op: api.OCall, A: m.attr(w, "__enter__")})
 	if n.Text != "" {
 		m.store(n.Text, v)
 	}
-	g := m.guarded(func() { m.statements(kid(n, 1)) })
+	g := m.guarded(func() { m.statements(node.Kid(n, 1)) })
 	var end label
 	m.onTrue(m.made(api.Ins{Op: api.OCall, A: exit, L: []int{g.val}}), &end)
 	m.emit(api.Ins{Op: api.ORaise, A: g.val})

@@ -4,31 +4,12 @@ import (
 	"strconv"
 
 	"scree/api"
+	"scree/node"
 )
 
 // isComprehension: does it bring hidden names?
 func isComprehension(n api.Node) bool {
 	return n.Kind == api.NListFor || n.Kind == api.NSetFor || n.Kind == api.NDictFor
-}
-
-// kid is the kid of that number, or a node without anything.
-func kid(n api.Node, i int) api.Node {
-	if i < 0 || i >= len(n.Kids) {
-		return api.Node{}
-	}
-	return n.Kids[i]
-}
-
-// eachTarget hands on the texts of the names that are assigned to in a place.
-func eachTarget(place api.Node, use func(text string)) {
-	switch place.Kind {
-	case api.NName:
-		use(place.Text)
-	case api.NTuple, api.NList:
-		for _, k := range place.Kids {
-			eachTarget(k, use)
-		}
-	}
 }
 
 // Rename: the tree with its comprehensions' names renamed.
@@ -59,7 +40,7 @@ func hide(n api.Node, suffix string) {
 	own := map[string]int{}
 	for _, k := range n.Kids {
 		if k.Kind == api.NEach {
-			eachTarget(kid(k, 0), func(text string) { own[text] = 1 })
+			node.EachTarget(node.Kid(k, 0), func(text string) { own[text] = 1 })
 		}
 	}
 	first := true
@@ -90,7 +71,7 @@ func mark(n *api.Node, own map[string]int, suffix string) {
 		for name := range own {
 			left[name] = 1
 		}
-		for _, p := range kid(*n, 0).Kids {
+		for _, p := range node.Kid(*n, 0).Kids {
 			delete(left, p.Text)
 		}
 		own = left

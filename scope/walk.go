@@ -1,6 +1,9 @@
 package scope
 
-import "scree/api"
+import (
+	"scree/api"
+	"scree/node"
+)
 
 // spot is where a node stands.
 type spot struct {
@@ -64,9 +67,9 @@ func collect(tree api.Node) []*fun {
 		eachBound(n, at, f.binds.add)
 		switch n.Kind {
 		case api.NDef:
-			funs = append(funs, newFun(n.Text, at.f, kid(n, 0)))
+			funs = append(funs, newFun(n.Text, at.f, node.Kid(n, 0)))
 		case api.NLambda:
-			funs = append(funs, newFun("lambda", at.f, kid(n, 0)))
+			funs = append(funs, newFun("lambda", at.f, node.Kid(n, 0)))
 		case api.NYield:
 			f.gen = true
 		case api.NGlobal:
@@ -87,10 +90,10 @@ func eachBound(n api.Node, at spot, use func(text string)) {
 	switch n.Kind {
 	case api.NAssign:
 		for i := 0; i < len(n.Kids)-1 && !at.statement; i++ {
-			eachTarget(n.Kids[i], use)
+			node.EachTarget(n.Kids[i], use)
 		}
 	case api.NAug, api.NFor, api.NEach:
-		eachTarget(kid(n, 0), use)
+		node.EachTarget(node.Kid(n, 0), use)
 	default:
 		if text, ok := ownBound(n, at); ok {
 			use(text)
@@ -102,7 +105,7 @@ func eachBound(n api.Node, at spot, use func(text string)) {
 func ownBound(n api.Node, at spot) (string, bool) {
 	switch n.Kind {
 	case api.NDel:
-		return kid(n, 0).Text, kid(n, 0).Kind == api.NName
+		return node.Kid(n, 0).Text, node.Kid(n, 0).Kind == api.NName
 	case api.NDef:
 		return n.Text, !at.statement
 	case api.NClass:

@@ -1,6 +1,9 @@
 package scope
 
-import "scree/api"
+import (
+	"scree/api"
+	"scree/node"
+)
 
 // firstWrong is the line of the first node that can't stand where it does; true, if there is none.
 func firstWrong(tree api.Node, funs []*fun) (int, bool) {
@@ -59,7 +62,7 @@ func isClassStatement(n api.Node) bool {
 	case api.NDef, api.NPass:
 		return true
 	case api.NExpr:
-		return kid(n, 0).Kind == api.NStr
+		return node.Kid(n, 0).Kind == api.NStr
 	case api.NAssign:
 		return len(n.Kids) == 2 && n.Kids[0].Kind == api.NName
 	}

@@ -1,6 +1,9 @@
 package show
 
-import "scree/api"
+import (
+	"scree/api"
+	"scree/node"
+)
 
 // level is how closely an expression holds together: each case makes it one more.
 func level(n api.Node) int {
@@ -95,12 +98,12 @@ func (p *printer) bare(n api.Node) {
 		p.word("yield", n)
 	case api.NLambda:
 		p.put("lambda")
-		for i, k := range kid(n, 0).Kids {
+		for i, k := range node.Kid(n, 0).Kids {
 			p.put(pick(min(i, 1), " ", ", "))
 			p.expr(k, 0)
 		}
 		p.put(": ")
-		p.expr(kid(n, 1), 0)
+		p.expr(node.Kid(n, 1), 0)
 	default:
 		p.operators(n)
 	}
@@ -109,27 +112,27 @@ func (p *printer) bare(n api.Node) {
 func (p *printer) operators(n api.Node) {
 	switch n.Kind {
 	case api.NCond:
-		p.expr(kid(n, 1), 1)
+		p.expr(node.Kid(n, 1), 1)
 		p.put(" if ")
-		p.expr(kid(n, 0), 1)
+		p.expr(node.Kid(n, 0), 1)
 		p.put(" else ")
-		p.expr(kid(n, 2), 0)
+		p.expr(node.Kid(n, 2), 0)
 	case api.NOr:
 		p.two(n, "or", 1, 2)
 	case api.NAnd:
 		p.two(n, "and", 2, 3)
 	case api.NNot:
 		p.put("not ")
-		p.expr(kid(n, 0), 3)
+		p.expr(node.Kid(n, 0), 3)
 	case api.NCompare:
-		p.expr(kid(n, 0), 5)
+		p.expr(node.Kid(n, 0), 5)
 		for i := 1; i < len(n.Kids); i++ {
 			p.put(" ", pick(n.Kids[i].Op, "", "==", "!=", "<", "<=", ">", ">=", "in", "not in", "is", "is not"), " ")
-			p.expr(kid(n.Kids[i], 0), 5)
+			p.expr(node.Kid(n.Kids[i], 0), 5)
 		}
 	case api.NUn:
 		p.put(pick(n.Op, "", "-", "+"))
-		p.expr(kid(n, 0), 7)
+		p.expr(node.Kid(n, 0), 7)
 	case api.NBin:
 		switch level(n) {
 		case 8:
@@ -144,13 +147,13 @@ func (p *printer) operators(n api.Node) {
 
 // two puts an operator between two kids.
 func (p *printer) two(n api.Node, op string, left, right int) {
-	p.expr(kid(n, 0), left)
+	p.expr(node.Kid(n, 0), left)
 	p.put(" ", op, " ")
-	p.expr(kid(n, 1), right)
+	p.expr(node.Kid(n, 1), right)
 }
 
 func (p *printer) primary(n api.Node) {
-	first := kid(n, 0)
+	first := node.Kid(n, 0)
 	if n.Kind == api.NAttr && (first.Kind == api.NInt || first.Kind == api.NFloat) {
 		p.put("(", first.Text, ")")
 	} else {
@@ -167,13 +170,13 @@ func (p *printer) primary(n api.Node) {
 		p.put(")")
 	case api.NIndex:
 		p.put("[")
-		p.expr(kid(n, 1), 0)
+		p.expr(node.Kid(n, 1), 0)
 		p.put("]")
 	case api.NSlice:
 		p.put("[")
-		p.part(kid(n, 1))
+		p.part(node.Kid(n, 1))
 		p.put(":")
-		p.part(kid(n, 2))
+		p.part(node.Kid(n, 2))
 		p.put("]")
 	}
 }
@@ -216,7 +219,7 @@ func (p *printer) display(n api.Node) {
 		p.pair(n, 0)
 		p.clauses(n, 2)
 	case api.NListFor, api.NSetFor:
-		p.expr(kid(n, 0), 0)
+		p.expr(node.Kid(n, 0), 0)
 		p.clauses(n, 1)
 	default:
 		p.list(n.Kids)
@@ -229,9 +232,9 @@ func (p *printer) display(n api.Node) {
 
 // pair puts the key and the value from the kid i on.
 func (p *printer) pair(n api.Node, i int) {
-	p.expr(kid(n, i), 0)
+	p.expr(node.Kid(n, i), 0)
 	p.put(": ")
-	p.expr(kid(n, i+1), 0)
+	p.expr(node.Kid(n, i+1), 0)
 }
 
 // clauses puts the parts of a comprehension from the kid i on.
@@ -240,13 +243,13 @@ func (p *printer) clauses(n api.Node, i int) {
 		k := n.Kids[i]
 		if k.Kind == api.NWhen {
 			p.put(" if ")
-			p.expr(kid(k, 0), 1)
+			p.expr(node.Kid(k, 0), 1)
 			continue
 		}
 		p.put(" for ")
-		p.expr(kid(k, 0), 9)
+		p.expr(node.Kid(k, 0), 9)
 		p.put(" in ")
-		p.expr(kid(k, 1), 1)
+		p.expr(node.Kid(k, 1), 1)
 	}
 }
 
