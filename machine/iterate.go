@@ -3,7 +3,6 @@ package machine
 import (
 	"scree/api"
 	"scree/plain"
-	"scree/real"
 	"scree/table"
 	"scree/whole"
 	"scree/word"
@@ -58,16 +57,12 @@ func (v *vm) inRange(w, item uint64) bool {
 	if kind != api.KFloat && !isWhole(kind) {
 		return false
 	}
-	value := v.take(item)
-	if kind == api.KFloat {
-		cut, err := real.Whole(value.Bits)
-		if err != api.OK || !plain.Equal(value, api.Value{Kind: api.KInt, Int: cut}) {
-			return false
-		}
-		value = api.Value{Kind: api.KInt, Int: cut}
+	// A float is cut to a whole number, which has to be equal to it.
+	cut, err := plain.ToInt(v.take(item))
+	if err != api.OK || !plain.Equal(v.take(item), cut) {
+		return false
 	}
-	whole1, _ := plain.ToInt(value)
-	x, r := whole1.Int, v.bounds(w)
+	x, r := cut.Int, v.bounds(w)
 	if !r.ahead(x) || whole.Cmp(x, r.start)*whole.Sign(r.step) < 0 {
 		return false
 	}
@@ -104,9 +99,6 @@ func absolute(x api.Big) api.Big {
 	}
 	return x
 }
-
-// isIterable: can a new iterator go over it as it is?
-func (v *vm) isIterable(kind int) bool { return v.isRow(kind) || kind == api.KRange }
 
 // iter is the builtin iter.
 func (v *vm) iter(a uint64) {
